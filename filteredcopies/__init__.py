@@ -1,0 +1,1 @@
+"""Copies of a table through filters and column lists, decided for all histories."""

@@ -1,0 +1,234 @@
+"""The rules of ../shared/LANGUAGE.md that can be checked by a look at the files of the package.
+
+These are the ones that are easily broken by accident; the numbers in the messages are those of the rules.
+"""
+
+import ast
+import builtins
+import pathlib
+import re
+import unittest
+import warnings
+
+PACKAGE = pathlib.Path(__file__).resolve().parent.parent / "filteredcopies"
+FILES = sorted(PACKAGE.glob("**/*.py"))
+
+ALLOWED_BUILTINS = set(
+    "len range enumerate zip min max sum abs sorted reversed int str bool bytes list tuple dict set frozenset"
+    " isinstance ord repr any all divmod pow getattr hasattr setattr iter next map type super property staticmethod"
+    " classmethod Exception ValueError TypeError KeyError IndexError LookupError ZeroDivisionError ArithmeticError"
+    " OverflowError RuntimeError NotImplementedError AttributeError StopIteration NotImplemented".split()
+)
+METHODS = set(
+    "append clear copy count endswith extend find get index insert isalnum isalpha isdigit islower isspace isupper"
+    " items join keys ljust lower lstrip partition pop remove replace reverse rfind rjust rpartition rsplit rstrip"
+    " setdefault split splitlines startswith strip update upper values zfill bit_length add discard".split()
+)
+LIBRARY = {
+    "heapq": "heappush heappop heapify heapreplace heappushpop", "math": "gcd lcm isqrt comb perm factorial",
+    "itertools": "combinations permutations chain accumulate pairwise islice zip_longest",
+    "collections": "defaultdict deque", "__future__": "annotations",
+}
+DOUBLE = set(
+    "init eq repr str len enter exit call iter lt le gt ge ne add sub mul floordiv mod pow and or xor lshift rshift"
+    " neg pos invert abs bool contains getitem setitem".split()
+)
+BARRED_NAMES = set(
+    "register mro elements open input law version_info with_traceback add_note attrgetter breakpoint builtins compile"
+    " copyright credits delattr dir eval exec exit gc globals help id importlib license locals methodcaller os quit"
+    " vars sys".split()
+)
+BARRED_WORDS = set(
+    "typing typing_extensions enum Enum IntEnum StrEnum Flag IntFlag Generic Protocol ABC ABCMeta namedtuple"
+    " NamedTuple TypedDict TYPE_CHECKING abstractmethod".split()
+)
+DECORATORS = {"property", "staticmethod", "classmethod"}
+
+
+class Module:
+    """A file of the package with its text and its tree."""
+
+    def __init__(self, path):
+        self.path = path
+        self.name = path.name
+        self.text = path.read_bytes().decode("ascii")
+        with warnings.catch_warnings():
+            warnings.simplefilter("error")
+            self.tree = ast.parse(self.text)
+            compile(self.text, self.name, "exec")
+        self.nodes = list(ast.walk(self.tree))
+
+    def of(self, *kinds):
+        return [node for node in self.nodes if isinstance(node, kinds)]
+
+    def functions(self):
+        return self.of(ast.FunctionDef)
+
+    def bound(self):
+        """The names that are bound at module level, one for each binding."""
+        names = []
+        for node in self.tree.body:
+            if isinstance(node, ast.ImportFrom):
+                names += [alias.asname or alias.name for alias in node.names]
+            elif isinstance(node, (ast.FunctionDef, ast.ClassDef)):
+                names.append(node.name)
+            elif isinstance(node, ast.Assign):
+                names += [target.id for target in node.targets]
+        return names
+
+    def local_names(self):
+        """Parameters, variables and nested functions."""
+        names = [node.arg for node in self.of(ast.arg)]
+        for function in self.functions():
+            for node in ast.walk(function):
+                if isinstance(node, ast.Name) and isinstance(node.ctx, ast.Store):
+                    names.append(node.id)
+                if isinstance(node, ast.FunctionDef) and node is not function:
+                    names.append(node.name)
+        return set(names)
+
+
+MODULES = [Module(path) for path in FILES]
+
+
+class Files(unittest.TestCase):
+    def test_the_folder_contains_only_files_of_python(self):
+        for path in PACKAGE.iterdir():
+            if path.name != "__pycache__":
+                self.assertRegex(path.name, r"^([a-z][a-z0-9_]*|__init__|__main__)\.py$", "L1 L14")
+        self.assertLessEqual(len(FILES), 100)
+
+    def test_size_and_characters(self):
+        for module in MODULES:
+            self.assertRegex(module.text, r"^[ -~\n]+\Z", f"L14 {module.name}")
+            self.assertTrue(module.text.endswith("\n"), module.name)
+            lines = module.text.split("\n")
+            self.assertLessEqual(len(lines) - 1, 399, f"L10 {module.name}")
+            for at, line in enumerate(lines, 1):
+                self.assertLessEqual(len(line), 120, f"L10 {module.name}:{at}")
+                self.assertEqual(line, line.rstrip(), f"{module.name}:{at}")
+
+    def test_size_of_functions(self):
+        for module in MODULES:
+            for node in module.functions():
+                self.assertLessEqual(node.end_lineno - node.lineno + 1, 40, f"L10 {module.name} {node.name}")
+
+    def test_words_that_do_not_occur(self):
+        for module in MODULES:
+            for name in re.findall(r"\w+", module.text):
+                self.assertNotIn(name, BARRED_WORDS, f"L17 {module.name}")
+                self.assertNotRegex(name, r"dataclass|overload|contextmanager|^_?_wall|_WallAttr", f"L17 {module.name}")
+
+
+class Imports(unittest.TestCase):
+    def test_they_name_the_very_file(self):
+        bound = {module.path.stem: module.bound() for module in MODULES}
+        for module in MODULES:
+            self.assertEqual(module.of(ast.Import), [], f"L16 {module.name}")
+            for node in module.of(ast.ImportFrom):
+                self.assertEqual(node.level, 0, f"L2 {module.name}")
+                for alias in node.names:
+                    self.assertIsNone(alias.asname, f"L2 {module.name}")
+                    if node.module in LIBRARY:
+                        self.assertIn(alias.name, LIBRARY[node.module].split(), f"L2 {module.name}")
+                        continue
+                    package, _, file = node.module.partition(".")
+                    self.assertEqual(package, "filteredcopies", f"L2 {module.name}")
+                    self.assertIn(alias.name, bound[file], f"L16 {module.name}")
+
+    def test_no_two_files_import_from_each_other(self):
+        follow = {
+            module.path.stem: {node.module.partition(".")[2] for node in module.of(ast.ImportFrom)}
+            for module in MODULES
+        }
+        for _ in MODULES:
+            for name, named in follow.items():
+                follow[name] = named.union(*[follow.get(other, set()) for other in named])
+        for name, named in follow.items():
+            self.assertNotIn(name, named, "L16")
+
+
+class Names(unittest.TestCase):
+    def test_module_level(self):
+        for module in MODULES:
+            for at, node in enumerate(module.tree.body):
+                docstring = at == 0 and isinstance(node, ast.Expr)
+                plain = isinstance(node, (ast.ImportFrom, ast.FunctionDef, ast.ClassDef, ast.Assign))
+                self.assertTrue(docstring or plain, f"L3 {module.name}:{node.lineno}")
+            self.assertEqual(len(module.bound()), len(set(module.bound())), f"L15 {module.name}")
+
+    def test_no_name_has_a_second_meaning(self):
+        for module in MODULES:
+            capitals = {node.name for node in module.of(ast.ClassDef)}
+            imported = {alias.name for node in module.of(ast.ImportFrom) for alias in node.names}
+            self.assertEqual(module.local_names() & (capitals | imported), set(), f"L15 {module.name}")
+            for name in module.local_names() | set(module.bound()):
+                self.assertNotIn(name, dir(builtins), f"L15 {module.name}")
+                self.assertNotIn(name, BARRED_NAMES, f"L17 {module.name}")
+                self.assertRegex(name, r"^(_|_?[A-Za-z][A-Za-z0-9_]*)$", f"L12 {module.name}")
+
+    def test_only_the_builtins_of_the_rules(self):
+        for module in MODULES:
+            own = set(module.bound()) | module.local_names()
+            for node in module.of(ast.Name):
+                if isinstance(node.ctx, ast.Load) and node.id not in own:
+                    self.assertIn(node.id, ALLOWED_BUILTINS, f"L8 {module.name}:{node.lineno}")
+                self.assertFalse(node.id == "_" and isinstance(node.ctx, ast.Load), f"L12 {module.name}:{node.lineno}")
+
+    def test_only_own_attributes_and_the_methods_of_the_rules(self):
+        own = set()
+        for module in MODULES:
+            for node in module.nodes:
+                if isinstance(node, ast.Attribute) and isinstance(node.ctx, ast.Store):
+                    own.add(node.attr)
+                if isinstance(node, ast.ClassDef):
+                    own |= {part.name for part in node.body if isinstance(part, ast.FunctionDef)}
+                    own |= {part.targets[0].id for part in node.body if isinstance(part, ast.Assign)}
+        for module in MODULES:
+            for node in module.of(ast.Attribute):
+                self.assertIn(node.attr, own | METHODS, f"L25 {module.name}:{node.lineno}")
+
+
+class Forms(unittest.TestCase):
+    def test_statements_and_expressions_that_are_not_used(self):
+        barred = (
+            ast.AsyncFunctionDef, ast.AsyncFor, ast.AsyncWith, ast.Await, ast.Global, ast.Div, ast.MatMult,
+            ast.AnnAssign,
+        )
+        for module in MODULES:
+            self.assertEqual(module.of(*barred), [], f"L6 L7 {module.name}")
+            for node in module.of(ast.Constant):
+                self.assertNotIsInstance(node.value, (float, complex, bytes), f"L7 {module.name}:{node.lineno}")
+                if isinstance(node.value, str):
+                    self.assertNotIn("%", node.value, f"L27 {module.name}:{node.lineno}")
+
+    def test_decorators_and_double_underscores(self):
+        for module in MODULES:
+            for node in module.functions() + module.of(ast.ClassDef):
+                names = [told.attr if isinstance(told, ast.Attribute) else told.id for told in node.decorator_list]
+                self.assertLessEqual(len(names), 1, f"L5 {module.name} {node.name}")
+                self.assertTrue(set(names) <= DECORATORS | {"setter"}, f"L5 {module.name} {node.name}")
+                if node.name.startswith("__"):
+                    self.assertIn(node.name.strip("_"), DOUBLE, f"L5 {module.name}")
+
+    def test_is_stands_beside_none_true_and_false(self):
+        for module in MODULES:
+            for node in module.of(ast.Compare):
+                for sign, told in zip(node.ops, node.comparators):
+                    if isinstance(sign, (ast.Is, ast.IsNot)):
+                        self.assertIsInstance(told, ast.Constant, f"L20 {module.name}:{node.lineno}")
+
+    def test_any_and_all_take_lists(self):
+        for module in MODULES:
+            self.assertEqual(module.of(ast.GeneratorExp), [], f"L7 {module.name}")
+
+    def test_errors_are_created_where_they_are_raised(self):
+        for module in MODULES:
+            for node in module.of(ast.Raise):
+                self.assertIsInstance(node.exc, (ast.Call, type(None)), f"L19 {module.name}:{node.lineno}")
+            for node in module.of(ast.ExceptHandler):
+                self.assertIsNotNone(node.type, f"L6 {module.name}:{node.lineno}")
+
+
+if __name__ == "__main__":
+    unittest.main()
