@@ -24,9 +24,10 @@ METHODS = set(
     " items join keys ljust lower lstrip partition pop remove replace reverse rfind rjust rpartition rsplit rstrip"
     " setdefault split splitlines startswith strip update upper values zfill bit_length add discard".split()
 )
+# Without product, combinations and permutations: there is a class that is iterated over and has a length.
 LIBRARY = {
     "heapq": "heappush heappop heapify heapreplace heappushpop", "math": "gcd lcm isqrt comb perm factorial",
-    "itertools": "combinations permutations chain accumulate pairwise islice zip_longest",
+    "itertools": "chain accumulate pairwise islice zip_longest",
     "collections": "defaultdict deque", "__future__": "annotations",
 }
 DOUBLE = set(
@@ -89,6 +90,27 @@ class Module:
 
 
 MODULES = [Module(path) for path in FILES]
+
+
+def stored_attributes(node):
+    """The names of the attributes that are assigned somewhere in a tree."""
+    return {
+        part.attr for part in ast.walk(node) if isinstance(part, ast.Attribute) and isinstance(part.ctx, ast.Store)
+    }
+
+
+def methods_of(node):
+    return {part.name for part in node.body if isinstance(part, ast.FunctionDef)}
+
+
+def class_values_of(node):
+    return {part.targets[0].id for part in node.body if isinstance(part, ast.Assign)}
+
+
+def is_set(node):
+    return isinstance(node, (ast.Set, ast.SetComp)) or (
+        isinstance(node, ast.Call) and isinstance(node.func, ast.Name) and node.func.id in ("set", "frozenset")
+    )
 
 
 class Files(unittest.TestCase):
@@ -178,12 +200,9 @@ class Names(unittest.TestCase):
     def test_only_own_attributes_and_the_methods_of_the_rules(self):
         own = set()
         for module in MODULES:
-            for node in module.nodes:
-                if isinstance(node, ast.Attribute) and isinstance(node.ctx, ast.Store):
-                    own.add(node.attr)
-                if isinstance(node, ast.ClassDef):
-                    own |= {part.name for part in node.body if isinstance(part, ast.FunctionDef)}
-                    own |= {part.targets[0].id for part in node.body if isinstance(part, ast.Assign)}
+            own |= stored_attributes(module.tree)
+            for node in module.of(ast.ClassDef):
+                own |= methods_of(node) | class_values_of(node)
         for module in MODULES:
             for node in module.of(ast.Attribute):
                 self.assertIn(node.attr, own | METHODS, f"L25 {module.name}:{node.lineno}")
@@ -228,6 +247,84 @@ class Forms(unittest.TestCase):
                 self.assertIsInstance(node.exc, (ast.Call, type(None)), f"L19 {module.name}:{node.lineno}")
             for node in module.of(ast.ExceptHandler):
                 self.assertIsNotNone(node.type, f"L6 {module.name}:{node.lineno}")
+
+
+class Classes(unittest.TestCase):
+    def setUp(self):
+        self.classes = [node for module in MODULES for node in module.of(ast.ClassDef)]
+        self.stored = set().union(*[stored_attributes(module.tree) for module in MODULES])
+        self.methods = [name for node in self.classes for name in methods_of(node)]
+        self.values = set().union(*[class_values_of(node) for node in self.classes])
+        self.properties = {
+            part.name for node in self.classes for part in node.body if isinstance(part, ast.FunctionDef)
+            and any(isinstance(told, ast.Name) and told.id == "property" for told in part.decorator_list)
+        }
+
+    def test_properties_and_class_values_share_their_names_with_nothing(self):
+        plain = {
+            part.name for node in self.classes for part in node.body
+            if isinstance(part, ast.FunctionDef) and part.name not in self.properties
+        }
+        self.assertEqual(self.properties & (self.stored | plain | self.values), set(), "L5")
+        self.assertEqual(self.values & (self.stored | plain), set(), "L5")
+
+    def test_no_name_is_a_method_and_an_attribute(self):
+        for node in self.classes:
+            self.assertEqual(stored_attributes(node) & methods_of(node), set(), f"L18 {node.name}")
+            names = [part.name for part in node.body if isinstance(part, ast.FunctionDef)]
+            self.assertEqual(len(names), len(set(names)), f"L18 {node.name}")
+
+    def test_attributes_are_not_called_as_what_builtin_values_have(self):
+        barred = set(
+            "items keys values pop update append clear extend insert remove reverse setdefault sort args encode decode"
+            " hex fromhex format".split()
+        )
+        self.assertEqual(self.stored & barred, set(), "L26")
+        self.assertNotIn("keys", self.methods, "L5 L7")
+
+    def test_iteration_and_items(self):
+        for node in self.classes:
+            methods = {part.name: part for part in node.body if isinstance(part, ast.FunctionDef)}
+            if "__getitem__" in methods:
+                self.assertIn("__iter__", methods, f"L5 {node.name}")
+            if "__iter__" in methods:
+                self.assertEqual(len(methods["__iter__"].body), 1, f"L5 {node.name}")
+                self.assertRegex(ast.unparse(methods["__iter__"].body[0]), r"^return iter\(self\.\w+\)$", "L5")
+            if "__len__" in methods:
+                self.assertRegex(ast.unparse(methods["__len__"].body[-1]), r"^return (len\(.*\)|\d+)$", "L28")
+
+    def test_functions_that_are_called_with_stars(self):
+        for module in MODULES:
+            for node in module.of(ast.Call):
+                double = [told for told in node.keywords if told.arg is None]
+                if double:
+                    self.assertEqual(len(node.keywords), 1, f"L7 {module.name}:{node.lineno}")
+                    beside = [*node.args, double[0].value]
+                    for told in beside:
+                        self.assertIsInstance(told, (ast.Name, ast.Attribute, ast.Constant), f"L7 {module.name}")
+
+
+class Sets(unittest.TestCase):
+    def test_sets_stand_where_they_are_sorted_measured_or_compared(self):
+        for module in MODULES:
+            allowed = []
+            for node in module.nodes:
+                if isinstance(node, ast.Call) and isinstance(node.func, ast.Name) and node.func.id in ("sorted", "len"):
+                    allowed += node.args
+                if isinstance(node, ast.Compare):
+                    allowed += [node.left, *node.comparators]
+                if isinstance(node, ast.Assign) and isinstance(node.targets[0], ast.Name):
+                    allowed.append(node.value)
+            for node in module.nodes:
+                if is_set(node):
+                    self.assertIn(node, allowed, f"L24 {module.name}:{node.lineno}")
+
+    def test_lists_and_dicts_of_modules_contain_none(self):
+        for module in MODULES:
+            for node in module.tree.body:
+                if isinstance(node, ast.Assign):
+                    inner = [part for part in ast.walk(node.value) if isinstance(part, (ast.List, ast.Dict))]
+                    self.assertLessEqual(len(inner), 1, f"L15 {module.name}:{node.lineno}")
 
 
 if __name__ == "__main__":
