@@ -1,7 +1,7 @@
 """Filters: conditions on the key and the cells of an entry, which are True, False or unknown."""
 
 from filteredcopies.errors import BadFilter
-from filteredcopies.grids import samples, slices, spread
+from filteredcopies.grids import cells_between, slices, spread
 from filteredcopies.plain import is_integer, is_word
 from filteredcopies.tables import Table
 from filteredcopies.terms import AND, EMPTY, EVERY, NOT, NOTHING, OR, SIGNS, XOR, weigh
@@ -110,7 +110,7 @@ def _possible_cells(chosen, table, key, cells, name):
         return [None]
     if name in cells:
         return [cells[name]]
-    return _cells_between(chosen.numbers(name), table.column(name).empty)
+    return cells_between(chosen.numbers(name), table.column(name).empty)
 
 
 def _same_entries(one, other):
@@ -118,7 +118,7 @@ def _same_entries(one, other):
     choices = {}
     for name in one.mentions() + other.mentions():
         numbers = one.numbers(name) + other.numbers(name)
-        choices[name] = _cells_between(numbers, name != Table.KEY)
+        choices[name] = cells_between(numbers, name != Table.KEY)
     for part in slices(choices):
         grid, full = spread(part)
         one_yes, _ = one.masks(grid, full)
@@ -126,10 +126,3 @@ def _same_entries(one, other):
         if one_yes != other_yes:
             return False
     return True
-
-
-def _cells_between(numbers, empty):
-    """Integers that stand for all others beside the numbers, and None if the cell may be empty."""
-    if empty:
-        return [None] + samples(numbers)
-    return samples(numbers)

@@ -4,6 +4,9 @@ Choices are a dict from names to the cells that each can have. A grid has an ent
 cell for every name.
 """
 
+# So many entries may be looked at by masks of one grid.
+MANY_ENTRIES = 1000
+
 
 def samples(numbers):
     """Integers such that each other one compares with all of these numbers as one of them does."""
@@ -14,15 +17,24 @@ def samples(numbers):
     return sorted(set([min(numbers) - 1] + numbers + behind))
 
 
+def cells_between(numbers, empty):
+    """Integers that stand for all others beside the numbers, and None if the cell may be empty."""
+    if empty:
+        return [None] + samples(numbers)
+    return samples(numbers)
+
+
 def slices(choices):
-    """A list of choices that have together the entries of these, each with one cell for the longest name."""
+    """A list of choices that have together the entries of these; in each of them there are not many."""
     longest = None
+    many = 1
     for name in choices:
+        many = many * len(choices[name])
         if longest is None or len(choices[name]) > len(choices[longest]):
             longest = name
-    if longest is None:
+    if many <= MANY_ENTRIES:
         return [choices]
-    # Masks of all entries could have thousands of digits; sliced ones stay short.
+    # Masks of all entries could have thousands of digits; those with one cell for the longest name stay short.
     return [{**choices, longest: [cell]} for cell in choices[longest]]
 
 

@@ -3,7 +3,7 @@
 from math import factorial
 
 from filteredcopies.copies import Habits
-from filteredcopies.errors import BadNetwork, BadTarget, NoFeed, NoTarget
+from filteredcopies.errors import BadNetwork, BadTarget, NoFeed, NotPlain, NoTarget
 from filteredcopies.filters import Filter
 from filteredcopies.plain import is_word
 from filteredcopies.rules import trusting
@@ -61,35 +61,37 @@ class Network:
 
     def weight(self):
         """A measure of how much a search of all histories has to look at."""
-        size = self._arrangements() * (1 + 2 * self._many_numbers(Table.KEY))
+        size = self.arrangements() * (1 + 2 * len(self.numbers(Table.KEY)))
         for name in self.table.names:
-            size = size * (2 + 2 * self._many_numbers(name))
+            size = size * (2 + 2 * len(self.numbers(name)))
         return size << len(self.feeds)
 
     def span(self, many):
         """Likewise, for searches that compare so many cells of each column with one another."""
-        size = self._arrangements() * (1 + 2 * self._many_numbers(Table.KEY))
-        for name in self.table.names:
-            for _ in range(many):
-                size = size * (3 + 2 * self._many_numbers(name))
-        return size << len(self.feeds) - len(self.targets)
+        return joint_span([self], many)
 
-    def _arrangements(self):
+    def arrangements(self):
         """In how many ways the feeds of each target can be ordered."""
         size = 1
         for target in self.targets:
-            size = size * factorial(len(self._feeds_to(target)))
+            size = size * factorial(len(self.feeds_to(target.name)))
         return size
 
-    def _many_numbers(self, name):
-        """With how many different numbers the filters compare the key or the column of this name."""
-        return len({number for feed in self.feeds for number in feed.where.numbers(name)})
+    def numbers(self, name):
+        """The numbers with which the filters compare the key or the column of this name, ascending."""
+        return sorted({number for feed in self.feeds for number in feed.where.numbers(name)})
 
-    def _feeds_to(self, target):
-        """The feeds to a target."""
-        return [feed for feed in self.feeds if feed.target == target.name]
+    def feeds_to(self, name):
+        """The indexes of the feeds to the target of this name, ascending."""
+        return [at for at, feed in enumerate(self.feeds) if feed.target == name]
 
-    def _target(self, name):
+    def feed_at(self, at):
+        """The feed with this index."""
+        if not 0 <= at < len(self.feeds):
+            raise NoFeed(at)
+        return self.feeds[at]
+
+    def target_of(self, name):
         """The target of this name."""
         for target in self.targets:
             if target.name == name:
@@ -100,12 +102,13 @@ class Network:
         """The names of the columns of the table or of a copy."""
         if source == TABLE:
             return self.table.names
-        return self._target(source).columns
+        return self.target_of(source).columns
 
     def filter_of(self, name):
         """The filter with just the entries of the table that are let through to the target."""
         chosen = None
-        for feed in self._feeds_to(self._target(name)):
+        for at in self.feeds_to(self.target_of(name).name):
+            feed = self.feeds[at]
             way = feed.where
             if feed.source != TABLE:
                 way = self.filter_of(feed.source) & way
@@ -120,7 +123,7 @@ class Network:
 
     def turned(self, name, **habits):
         """The network in which a target has some other habits."""
-        target = self._target(name)
+        target = self.target_of(name)
         told = target.habits.turned(**habits).named()
         changed = Target(target.name, target.columns, **told)
         targets = [changed if part.name == name else part for part in self.targets]
@@ -128,29 +131,46 @@ class Network:
 
     def with_elder(self, at, elder):
         """The network in which a feed has these elder columns."""
-        feed = self._feed(at)
+        feed = self.feed_at(at)
         return self._with_feed(at, Feed(feed.source, feed.target, where=feed.where, elder=elder, rule=feed.rule))
 
     def with_rule(self, at, rule):
         """The network in which a feed has this rule."""
-        feed = self._feed(at)
+        feed = self.feed_at(at)
         return self._with_feed(at, Feed(feed.source, feed.target, where=feed.where, elder=feed.elder, rule=rule))
 
     def with_filter(self, at, where):
         """The network in which a feed has this filter."""
-        feed = self._feed(at)
+        feed = self.feed_at(at)
         return self._with_feed(at, Feed(feed.source, feed.target, where=where, elder=feed.elder, rule=feed.rule))
-
-    def _feed(self, at):
-        """The feed with this index."""
-        if not 0 <= at < len(self.feeds):
-            raise NoFeed(at)
-        return self.feeds[at]
 
     def _with_feed(self, at, feed):
         """The network with another feed in this place."""
         feeds = [*self.feeds[:at], feed, *self.feeds[at + 1:]]
         return Network(self.table, self.targets, feeds)
+
+
+def joint_span(networks, many):
+    """The span of several networks over one table, taken together: each different number counts once."""
+    size = 1
+    for network in networks:
+        size = (size * network.arrangements()) << (len(network.feeds) - len(network.targets))
+    size = size * (1 + 2 * len(joint_numbers(networks, Table.KEY)))
+    for name in networks[0].table.names:
+        for _ in range(many):
+            size = size * (3 + 2 * len(joint_numbers(networks, name)))
+    return size
+
+
+def joint_numbers(networks, name):
+    """The numbers with which filters of these networks compare the key or a column, ascending."""
+    return sorted({number for network in networks for number in network.numbers(name)})
+
+
+def check_single(network):
+    """Raise an error unless the network has one feed."""
+    if len(network.feeds) != 1:
+        raise NotPlain(len(network.feeds))
 
 
 def _check_targets(table, targets):

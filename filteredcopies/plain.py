@@ -24,3 +24,15 @@ def copied(value):
     if isinstance(value, dict):
         return {name: copied(value[name]) for name in value}
     return value
+
+
+def same(known, value):
+    """Whether any value is this one: a truth value, integer, string or None, or a tuple of such.
+
+    Python's own sign alone would take True for 1.
+    """
+    if isinstance(known, tuple):
+        if not isinstance(value, tuple) or len(known) != len(value):
+            return False
+        return all([same(one, other) for one, other in zip(known, value)])
+    return known == value and isinstance(known, bool) == isinstance(value, bool)

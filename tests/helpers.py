@@ -1,5 +1,12 @@
 """What several tests use: values of every kind, and a check of an error with its fields."""
 
+import contextlib
+import time
+
+from filteredcopies.filters import compare
+from filteredcopies.networks import Feed, Network, Target
+from filteredcopies.tables import Column, Table
+
 # Values that a caller may pass where the document says "any value", none of which is a word or an integer.
 NEITHER = [
     True, False, None, "", "A", "Ab", "Z", "a`", "{", "a1", "a b", "a_b", " a", "a\n", "\u00e4", "\uff41", "abcdefghi", "a" * 1000,
@@ -34,3 +41,18 @@ def check_raises(case, error, fields, call, *args, **named):
         case.assertEqual(repr(fields_of(raised)), repr(fields))
         return
     case.fail(f"returned {result!r} for {args} {named}, and did not raise {error.__name__}{fields}")
+
+
+def the_example():
+    """The network of the examples of the document."""
+    table = Table.of(Column("amount"), Column("note", large=True, empty=True))
+    feed = Feed("table", "big", where=compare("amount", ">=", 5))
+    return Network(table, [Target("big", ["amount"])], [feed])
+
+
+@contextlib.contextmanager
+def check_time(case, seconds):
+    """Check that what stands in the block takes at most so many seconds."""
+    start = time.monotonic()
+    yield
+    case.assertLess(time.monotonic() - start, seconds)

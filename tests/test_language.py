@@ -78,13 +78,15 @@ class Module:
         return names
 
     def local_names(self):
-        """Parameters, variables and nested functions."""
+        """Parameters, variables, nested functions and caught errors."""
         names = [node.arg for node in self.of(ast.arg)]
         for function in self.functions():
             for node in ast.walk(function):
                 if isinstance(node, ast.Name) and isinstance(node.ctx, ast.Store):
                     names.append(node.id)
                 if isinstance(node, ast.FunctionDef) and node is not function:
+                    names.append(node.name)
+                if isinstance(node, ast.ExceptHandler) and node.name is not None:
                     names.append(node.name)
         return set(names)
 
@@ -241,6 +243,36 @@ class Forms(unittest.TestCase):
         for module in MODULES:
             self.assertEqual(module.of(ast.GeneratorExp), [], f"L7 {module.name}")
 
+    def test_generators(self):
+        functions = [node for module in MODULES for node in module.functions()]
+        generators = [
+            node for node in functions
+            if any(isinstance(part, (ast.Yield, ast.YieldFrom)) for part in ast.walk(node))
+        ]
+        for node in generators:
+            self.assertEqual([other.name for other in functions].count(node.name), 1, f"L23 {node.name}")
+            self.assertEqual(node.decorator_list, [], f"L23 {node.name}")
+            self.assertNotIn(node.name, METHODS, f"L23 {node.name}")
+        for module in MODULES:
+            for node in module.of(ast.Name):
+                self.assertNotEqual(node.id, "StopIteration", f"L19 {module.name}")
+
+    def test_ranges_and_views_are_iterated_on_the_spot(self):
+        lazy = {"zip", "enumerate", "reversed", "range", "map"}
+        for module in MODULES:
+            for node in module.of(ast.Return, ast.Assign):
+                if isinstance(node.value, ast.Call):
+                    called = node.value.func
+                    name = called.id if isinstance(called, ast.Name) else getattr(called, "attr", None)
+                    self.assertNotIn(name, lazy | {"items", "keys", "values"}, f"L23 {module.name}:{node.lineno}")
+
+    def test_only_own_errors_are_caught(self):
+        own = {node.name for module in MODULES for node in module.of(ast.ClassDef)}
+        for module in MODULES:
+            for node in module.of(ast.ExceptHandler):
+                caught = node.type.elts if isinstance(node.type, ast.Tuple) else [node.type]
+                self.assertTrue({part.id for part in caught} <= own, f"L19 {module.name}:{node.lineno}")
+
     def test_errors_are_created_where_they_are_raised(self):
         for module in MODULES:
             for node in module.of(ast.Raise):
@@ -296,6 +328,9 @@ class Classes(unittest.TestCase):
     def test_functions_that_are_called_with_stars(self):
         for module in MODULES:
             for node in module.of(ast.Call):
+                for told in node.args:
+                    if isinstance(told, ast.Starred):
+                        self.assertIsInstance(told.value, (ast.Name, ast.Attribute), f"L7 {module.name}:{node.lineno}")
                 double = [told for told in node.keywords if told.arg is None]
                 if double:
                     self.assertEqual(len(node.keywords), 1, f"L7 {module.name}:{node.lineno}")
