@@ -4,6 +4,8 @@ import importlib
 import inspect
 import unittest
 
+from helpers import the_example
+
 # For each module the parameters of its functions, and of the methods of its classes. A "*" stands before
 # parameters that are passed by name only, and before a parameter that takes all that are passed; "**" before one
 # that takes all that are passed by name.
@@ -12,6 +14,14 @@ FUNCTIONS = {
         "compare": "name sign number", "is_empty": "name", "outcomes": "chosen table key cells",
     },
     "rules": {"trusting": "moves whole", "doubting": "moves whole"},
+    "signals": {
+        "view": "network at key before after", "signal": "network at key before after",
+        "sent": "network at key before after",
+    },
+    "judging": {"judge": "network * names"},
+    "repairs": {"least_elder": "network at", "least_turns": "network name"},
+    "starts": {"judge_start": "network * mark"},
+    "comparing": {"compare_copies": "one other * names"},
 }
 CLASSES = {
     "tables": {
@@ -54,10 +64,28 @@ CLASSES = {
             "with_filter": "self at where",
         },
     },
+    "runs": {
+        "Run": {
+            "__init__": "self network", "step": "self key cells * order", "play": "self history", "rows": "self name",
+            "holders": "self name key", "faults": "self", "messages": "self", "renew": "self at where",
+        },
+    },
+    "judging": {"Verdict": {"shown": "self holding", "__bool__": "self", "__len__": "self"}},
+    "guides": {
+        "Guide": {
+            "__init__": "self network", "signals": "self", "deeds": "self told", "example": "self told",
+            "against": "self told deed", "best": "self", "conflict": "self", "__bool__": "self",
+        },
+    },
+    "starts": {"Start": {"__bool__": "self", "__len__": "self"}},
+    "comparing": {"Parting": {"__bool__": "self", "__len__": "self"}},
 }
 STATIC = ["every", "nothing"]
 OF_CLASS = ["of"]
-PROPERTIES = {"Put": ["cells"], "Change": ["cells"], "Take": ["cells"]}
+PROPERTIES = {
+    "Put": ["cells"], "Change": ["cells"], "Take": ["cells"], "Run": ["is_even"], "Verdict": ["history"],
+    "Start": ["first", "later"], "Parting": ["history"],
+}
 CLASS_VALUES = {
     "Table": {"KEY": "key", "MOST": 3}, "Put": {"deed": "put"}, "Change": {"deed": "change"},
     "Take": {"deed": "take"},
@@ -116,6 +144,25 @@ class Interface(unittest.TestCase):
                     self.assertIn(value, found, told)
                 for value, expected in CLASS_VALUES.get(told, {}).items():
                     self.assertEqual(found[value], expected, told)
+
+    def test_defaults_of_what_is_passed_by_name(self):
+        self.assertEqual(inspect.signature(module("judging").judge).parameters["names"].default, None)
+        for call, name in ((module("starts").judge_start, "mark"), (module("comparing").compare_copies, "names")):
+            self.assertIs(inspect.signature(call).parameters[name].default, inspect.Parameter.empty)
+        step = inspect.signature(module("runs").Run.step).parameters
+        self.assertEqual(step["order"].default, ())
+        self.assertEqual(inspect.signature(module("runs").Run.rows).parameters["name"].default, "table")
+
+    def test_attributes_are_set_on_each_object(self):
+        network = the_example()
+        judged, right = module("judging").judge, network.turned("big", gone="skip", lacking="make")
+        for told in (network, right):
+            self.assertTrue({"fault", "key", "holdings"} <= set(vars(judged(told))))
+            for mark in ("ahead", "behind"):
+                self.assertTrue({"fault", "key"} <= set(vars(module("starts").judge_start(told, mark=mark))))
+            parting = module("comparing").compare_copies(network, told, names=("big", "big"))
+            self.assertTrue({"key", "stopped"} <= set(vars(parting)))
+        self.assertIn("network", vars(module("runs").Run(network)))
 
 
 if __name__ == "__main__":
