@@ -82,7 +82,8 @@ def _fewest(changes):
     choices = {(): ()}
     while DEEDS not in choices:
         longer = {}
-        for wrong in choices:
+        # Over a list of its own: `choices` becomes the name of the dict that is filled here.
+        for wrong in list(choices):
             for more in changes:
                 both = tuple([deed for deed in DEEDS if deed in wrong or deed in more])
                 longer.setdefault(both, (*choices[wrong], changes[more]))

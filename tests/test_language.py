@@ -109,6 +109,92 @@ def class_values_of(node):
     return {part.targets[0].id for part in node.body if isinstance(part, ast.Assign)}
 
 
+CHANGING = set("append clear discard extend insert pop remove reverse setdefault sort update add".split())
+GOING_OVER = {"enumerate", "zip", "reversed", "iter"}
+VIEWS = {"items", "keys", "values"}
+
+
+def places(node):
+    """Where the value of an expression may be kept: names, attributes, and items of these."""
+    if isinstance(node, ast.Name):
+        return [node.id]
+    if isinstance(node, ast.Attribute):
+        return ["." + node.attr]
+    if isinstance(node, ast.Subscript):
+        return [place + "[]" for place in places(node.value)]
+    if isinstance(node, ast.IfExp):
+        return places(node.body) + places(node.orelse)
+    if isinstance(node, ast.BoolOp):
+        return [place for part in node.values for place in places(part)]
+    if isinstance(node, ast.Call) and isinstance(node.func, ast.Attribute) and node.func.attr in ("get", "setdefault"):
+        return [place + "[]" for place in places(node.func.value)] + [p for part in node.args[1:] for p in places(part)]
+    return []
+
+
+def gone_over(node):
+    """The places of what a loop over an expression goes over."""
+    if isinstance(node, ast.Call) and isinstance(node.func, ast.Name) and node.func.id in GOING_OVER:
+        return [place for part in node.args for place in gone_over(part)]
+    if isinstance(node, ast.Call) and isinstance(node.func, ast.Attribute) and node.func.attr in VIEWS:
+        return places(node.func.value)
+    return places(node)
+
+
+def changed_within(node):
+    """The places of what is changed by items or by methods somewhere in a tree."""
+    found = []
+    for part in ast.walk(node):
+        if isinstance(part, ast.Subscript) and isinstance(part.ctx, (ast.Store, ast.Del)):
+            found += places(part.value)
+        if isinstance(part, ast.AugAssign):
+            found += places(part.target)
+        if isinstance(part, ast.Call) and isinstance(part.func, ast.Attribute) and part.func.attr in CHANGING:
+            found += places(part.func.value)
+        if isinstance(part, ast.Call) and isinstance(part.func, ast.Name) and part.func.id.startswith("heap"):
+            found += places(part.args[0])
+    return found
+
+
+class Aliases:
+    """Which places of a function may hold the same list or dict, by its assignments and its loops."""
+
+    def __init__(self, function):
+        self._groups = {}
+        for node in ast.walk(function):
+            if isinstance(node, (ast.Assign, ast.NamedExpr)):
+                targets = node.targets if isinstance(node, ast.Assign) else [node.target]
+                for target in targets:
+                    self._join(places(target) + places(node.value))
+            if isinstance(node, (ast.For, ast.comprehension)):
+                self._join(places(node.target) + [place + "[]" for place in gone_over(node.iter)])
+
+    def _join(self, kept):
+        joined = set(kept).union(*[self.of(place) for place in kept])
+        for place in joined:
+            self._groups[place] = joined
+
+    def of(self, place):
+        return self._groups.get(place, {place})
+
+
+def changed_loops(function):
+    """The lines of a function in which a loop may change what it goes over."""
+    aliases = Aliases(function)
+    lines = []
+    for node in ast.walk(function):
+        if isinstance(node, ast.For):
+            loops, body = [node], node.body
+        elif isinstance(node, (ast.ListComp, ast.SetComp, ast.DictComp)):
+            loops, body = node.generators, [node]
+        else:
+            continue
+        changed = {place for part in body for place in changed_within(part)}
+        for loop in loops:
+            if any(aliases.of(place) & changed for place in gone_over(loop.iter)):
+                lines.append(node.lineno)
+    return lines
+
+
 def is_set(node):
     return isinstance(node, (ast.Set, ast.SetComp)) or (
         isinstance(node, ast.Call) and isinstance(node.func, ast.Name) and node.func.id in ("set", "frozenset")
@@ -265,6 +351,27 @@ class Forms(unittest.TestCase):
                     called = node.value.func
                     name = called.id if isinstance(called, ast.Name) else getattr(called, "attr", None)
                     self.assertNotIn(name, lazy | {"items", "keys", "values"}, f"L23 {module.name}:{node.lineno}")
+
+    def test_no_loop_changes_what_it_goes_over(self):
+        for module in MODULES:
+            for node in module.functions():
+                self.assertEqual(changed_loops(node), [], f"L23 {module.name} {node.name}")
+
+    def test_the_look_for_changed_loops_follows_names_items_and_choices(self):
+        head, body = "def f(self, a, b, c):\n ", "\n for x in {}:\n  {}"
+        for before, walked, change in (
+            ("pass", "a", "a.append(x)"), ("pass", "enumerate(a)", "a[x] = 1"), ("pass", "a.items()", "del a[x]"),
+            ("b = a", "a", "b.pop()"), ("c = b = a", "c", "a.append(x)"), ("b = a if c else x", "b", "a.append(x)"),
+            ("b = c or a", "b", "a.add(x)"), ("self.d = a", "self.d", "a.append(x)"), ("b = a[1]", "a[2]", "b.pop()"),
+            ("pass", "a", "b.setdefault(x, 1)\n a = b"), ("pass", "a", "heappush(a, x)"), ("b = a", "zip(c, b)", "a += c"),
+        ):
+            text = head + before + body.format(walked, change)
+            self.assertEqual(changed_loops(ast.parse(text).body[0]), [3], text)
+            copy = head + before + body.format(f"list({walked})", change)
+            self.assertEqual(changed_loops(ast.parse(copy).body[0]), [], copy)
+        for before, walked, change in (("b = list(a)", "a", "b.append(x)"), ("b = a", "a", "c.append(a)")):
+            text = head + before + body.format(walked, change)
+            self.assertEqual(changed_loops(ast.parse(text).body[0]), [], text)
 
     def test_only_own_errors_are_caught(self):
         own = {node.name for module in MODULES for node in module.of(ast.ClassDef)}
